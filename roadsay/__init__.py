@@ -1,0 +1,1 @@
+"""Roadsay: sayings of what is done with letters, held against one another."""
