@@ -1,15 +1,11 @@
 """Shapes and their letters."""
 
-from roadsay.errors import NoShape
+from roadsay.counts import is_below, is_number
+from roadsay.errors import NoLetter, NoShape
 
 MOST_FIELDS = 3
 MOST_VALUES = 4
 MOST_LETTERS = 27
-
-
-def is_number(thing):
-    """Tell whether thing is a whole number; True and False are none."""
-    return isinstance(thing, int) and not isinstance(thing, bool)
 
 
 def is_shape(thing):
@@ -37,3 +33,22 @@ def letters_of(shape):
     for values in shape:
         letters = [letter + (value,) for letter in letters for value in range(values)]
     return letters
+
+
+def is_letter(shape, thing):
+    """Tell of anything whether it is a letter of the shape."""
+    if not isinstance(thing, tuple) or len(thing) != len(shape):
+        return False
+    return all(is_below(value, values) for value, values in zip(thing, shape))
+
+
+def check_letter(shape, thing):
+    """Refuse what is no letter of the shape."""
+    if not is_letter(shape, thing):
+        raise NoLetter("this is no letter of the shape")
+
+
+def check_letters(shape, thing):
+    """Refuse what is no list of letters of the shape."""
+    if not isinstance(thing, list) or not all(is_letter(shape, letter) for letter in thing):
+        raise NoLetter("this is no list of letters of the shape")

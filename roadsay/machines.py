@@ -142,33 +142,37 @@ def roads_of(letters, parts, notes):
     return made.pop()
 
 
+def onward_of(letters, saying):
+    """Tell, for the beginning and then each note in turn, the dict of the relations from there, by their stops."""
+    parts = parts_of(saying)
+    notes = parts.count(("note",))
+    roads = roads_of(letters, parts, notes)
+    onward = [{} for start in range(notes + 1)]
+    for start, stop in roads:
+        onward[start][stop] = roads[start, stop]
+    return onward
+
+
 def ends_of(letters, relation):
     """Tell the rising list of tuples (letter, last) of a relation."""
     return [(letter, letters[at]) for letter, row in zip(letters, relation) for at in places_in(row)]
 
 
 def steps_of(letters, relations):
-    """Tell the rising list of tuples (letter, next, note) of relations that are given by their notes."""
+    """Tell the rising list of tuples (letter, next, note) of relations by their stops; the end is left out."""
     steps = [
         (letter, letters[at], note)
         for note in relations
+        if note != OUTSIDE
         for letter, row in zip(letters, relations[note])
         for at in places_in(row)
     ]
     return sorted(steps)
 
 
-def state_of(letters, roads, start):
-    """Tell the state (ends, steps) of the note with the number start, or of the beginning."""
-    onward = {stop: roads[begun, stop] for begun, stop in roads if begun == start and stop != OUTSIDE}
-    return ends_of(letters, roads[start, OUTSIDE]), steps_of(letters, onward)
-
-
 def machine_of(shape, saying):
     """Tell the list of the states of a saying: the beginning, then each note in turn."""
     check_saying(shape, saying)
     letters = letters_of(shape)
-    parts = parts_of(saying)
-    notes = parts.count(("note",))
-    roads = roads_of(letters, parts, notes)
-    return [state_of(letters, roads, start) for start in range(notes + 1)]
+    onward = onward_of(letters, saying)
+    return [(ends_of(letters, relations[OUTSIDE]), steps_of(letters, relations)) for relations in onward]

@@ -1,7 +1,8 @@
 """Sayings and tests: which tuples are such, and what parts they have."""
 
-from roadsay.errors import NoSaying
-from roadsay.letters import check_shape, is_number
+from roadsay.counts import is_below
+from roadsay.errors import NoSaying, NoTest
+from roadsay.letters import check_shape
 
 MOST_NOTES = 5
 
@@ -19,11 +20,6 @@ LENGTHS = {
 }
 FIELD_WORDS = ("is", "put")
 TEST_WORDS = ("yes", "no", "is", "then", "either", "not")
-
-
-def is_below(thing, most):
-    """Tell whether thing is a whole number from 0 to one less than most."""
-    return is_number(thing) and 0 <= thing < most
 
 
 def has_part_form(shape, thing):
@@ -84,12 +80,26 @@ def check_saying(shape, saying):
         raise NoSaying("this is no saying of the shape")
 
 
-def parts_of(saying):
-    """Tell the list of all parts of a saying in the order in which they stand, each ahead of those within it."""
+def check_test(shape, test):
+    """Refuse what is no shape, then what is no test of it."""
+    if not is_test(shape, test):
+        raise NoTest("this is no test of the shape")
+
+
+def parts_by(saying, inner_of):
+    """Tell the list of a saying and all that lies within it as inner_of tells of each part.
+
+    They stand in their order, each ahead of those within it.
+    """
     parts = []
     waiting = [saying]
     while waiting:
         part = waiting.pop()
         parts.append(part)
-        waiting.extend(inner_parts(part)[::-1])
+        waiting.extend(inner_of(part)[::-1])
     return parts
+
+
+def parts_of(saying):
+    """Tell the list of all parts of a saying in the order in which they stand, each ahead of those within it."""
+    return parts_by(saying, inner_parts)

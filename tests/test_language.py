@@ -18,6 +18,12 @@ frozenset isinstance ord repr any all divmod iter next Exception ValueError Type
 ZeroDivisionError ArithmeticError OverflowError RuntimeError NotImplementedError AttributeError StopIteration
 NotImplemented""".split())
 
+METHODS = set("""append clear copy count endswith extend find get index insert isalnum isalpha isdigit islower isspace
+isupper items join keys ljust lower lstrip partition pop remove replace reverse rfind rjust rpartition rsplit rstrip
+setdefault split splitlines startswith strip update upper values zfill bit_length""".split())
+# What is gone through at once and kept under no name.
+AT_ONCE = {"zip", "enumerate", "reversed", "range", "items", "keys", "values"}
+
 
 def tree_of(path):
     return ast.parse(path.read_text())
@@ -92,6 +98,41 @@ class LanguageTest(unittest.TestCase):
             for node in ast.walk(tree):
                 if isinstance(node, ast.Name) and isinstance(node.ctx, ast.Load):
                     self.assertTrue(node.id in names or node.id in BUILTINS, (path.name, node.id))
+
+    def test_methods(self):
+        own = {node.name for path in FILES for node in ast.walk(tree_of(path)) if isinstance(node, ast.FunctionDef)}
+        for path in FILES:
+            for node in ast.walk(tree_of(path)):
+                if isinstance(node, ast.Call) and isinstance(node.func, ast.Attribute):
+                    name = node.func.attr
+                    self.assertTrue(name in METHODS | own | {"add", "discard"}, (path.name, name))
+
+    def test_what_is_gone_through_at_once_is_not_kept(self):
+        for path in FILES:
+            for node in ast.walk(tree_of(path)):
+                if isinstance(node, (ast.Assign, ast.Return)) and isinstance(node.value, ast.Call):
+                    called = node.value.func
+                    name = called.attr if isinstance(called, ast.Attribute) else getattr(called, "id", None)
+                    self.assertNotIn(name, AT_ONCE, path.name)
+
+    def test_no_name_of_an_import_or_a_class_is_given_again(self):
+        for path in FILES:
+            tree = tree_of(path)
+            names = list(bound_names(tree))
+            for node in ast.walk(tree):
+                for name in [alias.name for alias in getattr(node, "names", [])] if hasattr(node, "module") else []:
+                    self.assertEqual(names.count(name), 1, (path.name, name))
+                if isinstance(node, ast.ClassDef):
+                    self.assertEqual(names.count(node.name), 1, (path.name, node.name))
+
+    def test_no_two_files_import_from_each_other(self):
+        above = {path.stem: {node.module.split(".")[1] for node in ast.walk(tree_of(path))
+                             if isinstance(node, ast.ImportFrom)} for path in FILES}
+        left = set(above)
+        while left:
+            lowest = {name for name in left if not above[name] & left}
+            self.assertTrue(lowest, left)
+            left -= lowest
 
 
 if __name__ == "__main__":
