@@ -48,7 +48,12 @@ def check_letter(shape, thing):
         raise NoLetter("this is no letter of the shape")
 
 
+def are_letters(shape, thing):
+    """Tell of anything whether it is a list of letters of the shape."""
+    return isinstance(thing, list) and all(is_letter(shape, letter) for letter in thing)
+
+
 def check_letters(shape, thing):
     """Refuse what is no list of letters of the shape."""
-    if not isinstance(thing, list) or not all(is_letter(shape, letter) for letter in thing):
+    if not are_letters(shape, thing):
         raise NoLetter("this is no list of letters of the shape")

@@ -86,9 +86,39 @@ NO_LETTERS = [None, True, False, 0, 1, 10 ** 29, "", "00", "(0, 0)", [], [0, 0],
               (None, 0), (0, None), ("0", "0"), ("0", 0), ([0], 0), (0, [0]), ((0, 0),), ((0,), (0,)), ((0, 0), (0, 0)),
               (0,) * 300, ("yes",), deep((0, 0), 18)]
 
+# No lists of letters of the shape (2, 2).
+NO_LISTS = ([None, True, False, 0, 1, 10 ** 29, "", "00", "letters", (), ((0, 0),), ((0, 0), (1, 1)), (0, 0), ("yes",),
+             ([(0, 0)],), deep((0, 0), 18)]
+            + [[thing] for thing in NO_LETTERS] + [[(0, 0), (1, 1), thing] for thing in NO_LETTERS])
+
 # No counts, however far they go.
 NO_COUNTS = [None, True, False, -1, -10 ** 29, 201, 1000, 10 ** 29, "", "0", "1", [], [0], [1, 2], (), (0,), (1,),
              (0, 0), deep(1, 20)]
+
+# No matches of the shape (2, 2), which are no changes either.
+NO_MATCHES = [None, True, False, 0, -1, 10 ** 29, "", "00", [], [0, 0], [-1, -1], [(0, 0)], (), (0,), (-1,), (0, 0, 0),
+              (-1, -1, -1), (0, 2), (2, 0), (-1, 2), (-2, 0), (0, -2), (-2, -2), (0, 10 ** 29), (-10 ** 29, 0),
+              (True, 0), (0, True), (False, 0), (-1, False), (None, 0), (0, None), ("0", 0), (0, "0"), ("", ""),
+              ([0], 0), (0, [0]), ((0, 0),), ((0,), (0,)), (0, (0,)), (-1,) * 300, deep((0, 0), 17)]
+
+# No lists of changes of the shape (2, 2): what is no list, what has a part that is no change, what does not rise.
+NO_CHANGES = ([None, True, False, 0, 1, 10 ** 29, "", "00", (), ((0, 0),), ((0, 0), (1, 1)), (0, 0), ([(0, 0)],)]
+              + [[thing] for thing in NO_MATCHES] + [[(-1, -1), thing] for thing in NO_MATCHES]
+              + [[(0, 0), (0, 0)], [(0, 0), (-1, 0)], [(0, 1), (0, 0)], [(0, 0), (1, 1), (1, 0)], [(-1, -1)] * 3,
+                 [(-1, -1), (0, 0), (0, 0), (1, 1)], [(1, 1), (0, 0), (1, 1)], [(0, -1), (0, 0), (0, 1), (-1, 1)]])
+
+# No rules of the shape (2, 2).
+NO_RULES = ([None, True, False, 0, 1, 10 ** 29, "", "rule", [], (), ((0, 0),), ([],), [(0, 0), []], ([], (0, 0)),
+             ((0, 0), [], []), ((0, 0), (0, 0)), ((0, 0), [(0, 0)], None), (((0, 0), []),), [((0, 0), [])]]
+            + [(thing, []) for thing in NO_MATCHES] + [(thing, [(0, 0)]) for thing in NO_MATCHES]
+            + [((0, 0), thing) for thing in NO_CHANGES])
+
+RULE = ((0, -1), [(-1, 1), (1, -1)])
+# No tables of the shape (2, 2).
+NO_TABLES = ([None, True, False, 0, 1, -1, 10 ** 29, "", "table", (), (RULE,), RULE, (0, 0), ("yes",), deep(RULE, 17),
+              [RULE] * 61, [RULE] * 62, [RULE] * 300]
+             + [[thing] for thing in NO_RULES] + [[RULE, thing] for thing in NO_RULES]
+             + [[thing, RULE] for thing in NO_RULES])
 
 
 def in_row(word, sayings, last):
